@@ -1,0 +1,1 @@
+"""Seats that are divided among parties by divisor methods."""

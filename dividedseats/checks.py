@@ -1,0 +1,37 @@
+"""Checks of the kinds of values that all chapters share."""
+
+from dividedseats.errors import BadValue
+
+
+def check(good, name):
+    """Raise BadValue with the name of the argument unless it is good."""
+    if not good:
+        raise BadValue(name)
+
+
+def is_whole(value):
+    """Tell whether the value is an integer."""
+    # Python counts True and False among the integers, the program does not.
+    return isinstance(value, int) and not isinstance(value, bool)
+
+
+def is_between(value, low, high):
+    """Tell whether the value is an integer from low to high."""
+    return is_whole(value) and low <= value <= high
+
+
+def is_row(value, low, high):
+    """Tell whether the value is a tuple of integers from low to high."""
+    return isinstance(value, tuple) and all(is_between(item, low, high) for item in value)
+
+
+def is_pair(value):
+    """Tell whether the value is a pair."""
+    return isinstance(value, tuple) and len(value) == 2
+
+
+def is_ratio(value):
+    """Tell whether the value is a pair of integers from 1 on, of any size."""
+    if not is_pair(value):
+        return False
+    return all(is_whole(item) and item >= 1 for item in value)
