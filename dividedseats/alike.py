@@ -1,8 +1,6 @@
 """Two methods: whether their divisors are the same, or in some ratio."""
 
-from math import gcd
-
-from dividedseats.checks import check, is_ratio, is_row
+from dividedseats.checks import check, is_ratio, is_row, lowest
 from dividedseats.methods import GREATEST_INDEX, divisor_at, is_method, normal, reduced
 
 
@@ -18,21 +16,13 @@ def ratio_of(first, second):
     if reduced(first) != reduced(second):
         return None
     # The reduced forms are equal, so the steps are in the ratio of all divisors.
-    own, other = first[1], second[1]
-    common = gcd(own, other)
-    return (own // common, other // common)
+    return lowest(first[1], second[1])
 
 
 def accepts_ratio(first, second, value):
     """Tell whether the value is a ratio in which the divisors of both are."""
     check_both(first, second)
-    if not is_ratio(value):
-        return False
-    p, q = value
-    return all(
-        divisor_at(first, index) * q == divisor_at(second, index) * p
-        for index in range(compared(first, second))
-    )
+    return shows_ratio(first, second, value)
 
 
 def told_indexes(first, second):
@@ -57,6 +47,17 @@ def check_both(first, second):
     """Raise BadValue unless both are methods."""
     check(is_method(first), "first")
     check(is_method(second), "second")
+
+
+def shows_ratio(first, second, value):
+    """Tell whether the value is a ratio in which the divisors of both methods are."""
+    if not is_ratio(value):
+        return False
+    p, q = value
+    return all(
+        divisor_at(first, index) * q == divisor_at(second, index) * p
+        for index in range(compared(first, second))
+    )
 
 
 def compared(first, second):

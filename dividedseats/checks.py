@@ -1,4 +1,6 @@
-"""Checks of the kinds of values that all chapters share."""
+"""Checks of the kinds of values that all chapters share, and how fractions are compared."""
+
+from math import gcd
 
 from dividedseats.errors import BadValue
 
@@ -35,3 +37,14 @@ def is_ratio(value):
     if not is_pair(value):
         return False
     return all(is_whole(item) and item >= 1 for item in value)
+
+
+def lowest(p, q):
+    """Return the ratio without a common divisor."""
+    common = gcd(p, q)
+    return (p // common, q // common)
+
+
+def is_less(one, other):
+    """Tell whether the first fraction is less, of two tuples that begin with such pairs."""
+    return one[0] * other[1] < other[0] * one[1]

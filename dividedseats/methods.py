@@ -54,6 +54,16 @@ def divisor_at(method, index):
     return firsts[last] + (index - last) * step
 
 
+def index_pairs(many):
+    """Return the pairs of indexes below the number, by their sums, and then by the first ones."""
+    return [
+        (one, total - one)
+        for total in range(2 * many - 1)
+        for one in range(total + 1)
+        if one < many and total - one < many
+    ]
+
+
 def first_beyond(method, number):
     """Return the least index of a divisor that is greater than the number."""
     check(is_method(method), "method")

@@ -1,8 +1,10 @@
 """What several tests share: wrong values of every kind, and the assertions about errors."""
 
 import itertools
+import random
+from fractions import Fraction
 
-from dividedseats.errors import BadValue
+from dividedseats.errors import BadValue, NotPossible, TooLarge
 
 HONDT = ((1,), 1)
 LAGUE = ((1,), 2)
@@ -104,6 +106,67 @@ def wrong_integers(low, high):
     return OTHER_KINDS + ((), (low,), low - 1, high + 1, str(low), [low], float(low))
 
 
+# Results of which no one is right for itself, so that a wrong one can be told anywhere.
+RESULT = ((2, 1), (1, 1))
+WRONG_RESULT = OTHER_KINDS + (
+    1,
+    (),
+    ((2, 1),),
+    ((2, 1), (1, 1), ()),
+    [(2, 1), (1, 1)],
+    ([2, 1], (1, 1)),
+    ((2, 1), [1, 1]),
+    ((2, 1), None),
+    (None, (1, 1)),
+    ((2, 1), (1,)),
+    ((2, 1), (1, 1, 0)),
+    ((), (0,)),
+    ((5,), ()),
+    ((0, 1), (1, 1)),
+    ((2, 1000001), (1, 1)),
+    ((2, True), (1, 1)),
+    ((2, 1), (True, 1)),
+    ((2, 1), (1, False)),
+    ((2, "1"), (1, 1)),
+    ((2, 1), (1, "1")),
+    ((2, 1.0), (1, 1)),
+    ((2, 1), (-1, 1)),
+    ((2, 1), (8, 1)),
+    ((2, 1), (0, 9)),
+    ((1,) * 6, (0,) * 6),
+)
+WRONG_RESULTS = OTHER_KINDS + (
+    (RESULT,) * 7,
+    RESULT,
+    [RESULT],
+    1,
+    *((value,) for value in WRONG_RESULT),
+    *((RESULT, value) for value in WRONG_RESULT),
+    (RESULT,) * 5 + (None,),
+)
+
+# Not divisors that a tuple tells.
+WRONG_DIVISORS = OTHER_KINDS + (
+    1,
+    "123",
+    (),
+    (0,),
+    (-1, 1),
+    (2, 1),
+    (1, 3, 2),
+    (1, True),
+    (True,),
+    (False, 1),
+    (1, None),
+    (1, "2"),
+    (1.0,),
+    ((1,),),
+    [1, 2],
+    (1,) * 21,
+    tuple(range(20, 0, -1)),
+)
+
+
 class Checks:
     """Assertions for test cases."""
 
@@ -112,6 +175,29 @@ class Checks:
             function(*arguments)
         self.assertIs(type(caught.exception), BadValue)
         self.assertEqual(caught.exception.name, name, arguments)
+
+    def assert_not_possible(self, why, function, *arguments):
+        with self.assertRaises(NotPossible) as caught:
+            function(*arguments)
+        self.assertIs(type(caught.exception), NotPossible)
+        self.assertEqual(caught.exception.why, why, arguments)
+
+    def assert_too_large(self, what, function, *arguments):
+        with self.assertRaises(TooLarge) as caught:
+            function(*arguments)
+        self.assertIs(type(caught.exception), TooLarge)
+        self.assertEqual(caught.exception.what, what, arguments)
+
+    def assert_judged(self, judge, right, value):
+        """The judge tells of the value, and of what it is twisted to, what is right.
+
+        judge: a function of the value alone; right: another one, which the test wrote.
+        """
+        self.assert_exactly(judge(value), right(value))
+        for other in twists(value):
+            self.assert_exactly(judge(other), right(other))
+        for other in wrong_kinds(value):
+            self.assert_exactly(judge(other), False)
 
     def assert_exactly(self, value, expected):
         """The kinds count, too: 1 is not True, and a list is not a tuple."""
@@ -165,3 +251,109 @@ def small_methods(greatest, most_firsts):
         for firsts in itertools.combinations_with_replacement(range(1, greatest + 1), many)
         for step in range(1, greatest + 1)
     ]
+
+
+def all_seats(parties, house):
+    """All seats of a house, in the order of point 19."""
+    rows = itertools.product(range(house + 1), repeat=parties)
+    return sorted([row for row in rows if sum(row) == house], reverse=True)
+
+
+def has_key_by(row, votes, seats):
+    """Seats are valid if no next quotient is greater than a last one (another way to say it)."""
+    following = [Fraction(v, row[s]) for v, s in zip(votes, seats)]
+    last = [Fraction(v, row[s - 1]) for v, s in zip(votes, seats) if s > 0]
+    return not last or max(following) <= min(last)
+
+
+def has_key(method, votes, seats):
+    return has_key_by(plain_divisors(method, max(seats, default=0) + 1), votes, seats)
+
+
+def all_valid(method, votes, house):
+    """The valid seats of a house, in their order."""
+    return [seats for seats in all_seats(len(votes), house) if has_key(method, votes, seats)]
+
+
+def small_method(chance):
+    """A method with small firsts, of which several are often equal."""
+    firsts = sorted(chance.randint(1, 6) for _ in range(chance.randint(1, 6)))
+    return (tuple(firsts), chance.randint(1, 4))
+
+
+def sample(seed, many, most_parties):
+    """Methods, votes and houses, the same ones in each run; small votes make many ties."""
+    chance = random.Random(seed)
+    for _ in range(many):
+        method = small_method(chance)
+        parties = chance.randint(0, most_parties)
+        votes = tuple(chance.randint(1, 9) for _ in range(parties))
+        yield method, votes, chance.randint(0, 8)
+
+
+def some_seats(chance, parties, most):
+    """Seats, valid or not, at most so many together."""
+    seats = [0] * parties
+    for _ in range(chance.randint(0, most) if parties else 0):
+        seats[chance.randrange(parties)] += 1
+    return tuple(seats)
+
+
+def places(value):
+    """The ways to each tuple, integer and string in a value of nested tuples."""
+    yield ()
+    if isinstance(value, tuple):
+        for at, item in enumerate(value):
+            for rest in places(item):
+                yield (at,) + rest
+
+
+def at_place(value, place):
+    for at in place:
+        value = value[at]
+    return value
+
+
+def put(value, place, item):
+    """The value with the item at the place."""
+    if not place:
+        return item
+    at, rest = place[0], place[1:]
+    return value[:at] + (put(value[at], rest, item),) + value[at + 1:]
+
+
+def twists(value):
+    """The value, changed at one place: other integers, items left out, doubled and exchanged."""
+    for place in places(value):
+        old = at_place(value, place)
+        if isinstance(old, tuple):
+            for at in range(len(old)):
+                yield put(value, place, old[:at] + old[at + 1:])
+                yield put(value, place, old[:at] + (old[at],) + old[at:])
+                yield put(value, place, old[:at + 1] + old[at + 2:] + old[at + 1:at + 2])
+            for at in range(len(old) - 1):
+                yield put(value, place, old[:at] + (old[at + 1], old[at]) + old[at + 2:])
+            yield put(value, place, old[::-1])
+            yield put(value, place, ())
+        elif isinstance(old, int) and not isinstance(old, bool):
+            for new in (old + 1, old - 1, 0, 1, 2 * old, -old, old + 10**20):
+                yield put(value, place, new)
+
+
+def wrong_kinds(value):
+    """The value with something of another kind at one place, at which it is never right."""
+    for place in places(value):
+        old = at_place(value, place)
+        for new in OTHER_KINDS + ((), ("round",), (None,)):
+            if not (isinstance(old, tuple) and isinstance(new, tuple)):
+                yield put(value, place, new)
+        if isinstance(old, tuple):
+            yield put(value, place, list(old))
+            yield put(value, place, old + (None,))
+            yield put(value, place, (None,) + old)
+        elif isinstance(old, str):
+            for new in (old + " ", old.upper(), old[:-1], old.encode(), (old,)):
+                yield put(value, place, new)
+        elif isinstance(old, int):
+            for new in (float(old), str(old), (old,), [old], bool(old)):
+                yield put(value, place, new)

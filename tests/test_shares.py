@@ -1,7 +1,6 @@
 """Points 6, 13, 19, 20, 24, 25 and 27 to 29: which seats are valid."""
 
 import itertools
-import random
 import unittest
 from fractions import Fraction
 
@@ -25,7 +24,10 @@ from support import (
     WRONG_SEATS,
     WRONG_VOTES,
     Checks,
+    all_seats,
+    all_valid,
     plain_divisors,
+    sample,
     wrong_integers,
 )
 
@@ -40,40 +42,10 @@ SEATS_ROW = ("seats", SEATS, WRONG_SEATS)
 HOUSE_ROW = ("house", 3, wrong_integers(0, 8))
 
 
-def all_seats(parties, house):
-    """All seats of a house, in the order of point 19."""
-    rows = itertools.product(range(house + 1), repeat=parties)
-    return sorted([row for row in rows if sum(row) == house], reverse=True)
-
-
-def has_key(method, votes, seats):
-    """Seats are valid if no next quotient is greater than a last one (another way to say it)."""
-    row = plain_divisors(method, 9)
-    following = [Fraction(v, row[s]) for v, s in zip(votes, seats)]
-    last = [Fraction(v, row[s - 1]) for v, s in zip(votes, seats) if s > 0]
-    return not last or max(following) <= min(last)
-
-
-def all_valid(method, votes, house):
-    """The valid seats of a house, in their order."""
-    return [seats for seats in all_seats(len(votes), house) if has_key(method, votes, seats)]
-
-
 def told_valid(method, votes, house):
     """The valid seats of a house, as the program tells them."""
     many = count_valid(method, votes, house)
     return [nth_valid(method, votes, house, index) for index in range(many)]
-
-
-def sample(seed, many, most_parties):
-    """Methods, votes and houses, the same ones in each run; small votes make many ties."""
-    chance = random.Random(seed)
-    for _ in range(many):
-        firsts = sorted(chance.randint(1, 6) for _ in range(chance.randint(1, 6)))
-        method = (tuple(firsts), chance.randint(1, 4))
-        parties = chance.randint(0, most_parties)
-        votes = tuple(chance.randint(1, 9) for _ in range(parties))
-        yield method, votes, chance.randint(0, 8)
 
 
 class VotesTest(Checks, unittest.TestCase):
