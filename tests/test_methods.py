@@ -8,6 +8,7 @@ from dividedseats.methods import (
     divisor,
     divisors,
     first_beyond,
+    index_pairs,
     is_method,
     multiplied,
     normal,
@@ -47,6 +48,16 @@ class IsMethodTest(Checks, unittest.TestCase):
     def test_other_values(self):
         for value in WRONG_METHODS:
             self.assert_exactly(is_method(value), False)
+
+
+class IndexPairsTest(Checks, unittest.TestCase):
+    def test_order(self):
+        # By the sum, and then by the first one.
+        self.assert_exactly(index_pairs(1), [(0, 0)])
+        expected = [(0, 0), (0, 1), (1, 0), (0, 2), (1, 1), (2, 0), (1, 2), (2, 1), (2, 2)]
+        self.assert_exactly(index_pairs(3), expected)
+        for many in range(1, 8):
+            self.assertEqual(len(set(index_pairs(many))), many * many)
 
 
 class DivisorsTest(Checks, unittest.TestCase):
