@@ -22,6 +22,11 @@ def is_between(value, low, high):
     return is_whole(value) and low <= value <= high
 
 
+def is_from(value, low):
+    """Tell whether the value is an integer from low on, of any size."""
+    return is_whole(value) and value >= low
+
+
 def is_row(value, low, high):
     """Tell whether the value is a tuple of integers from low to high."""
     return isinstance(value, tuple) and all(is_between(item, low, high) for item in value)
@@ -34,15 +39,18 @@ def is_pair(value):
 
 def is_ratio(value):
     """Tell whether the value is a pair of integers from 1 on, of any size."""
-    if not is_pair(value):
-        return False
-    return all(is_whole(item) and item >= 1 for item in value)
+    return is_pair(value) and all(is_from(item, 1) for item in value)
 
 
 def lowest(p, q):
     """Return the ratio without a common divisor."""
     common = gcd(p, q)
     return (p // common, q // common)
+
+
+def divided_up(number, by):
+    """Return the least integer that is not less than the number divided."""
+    return -(-number // by)
 
 
 def is_less(one, other):

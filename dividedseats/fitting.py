@@ -9,7 +9,7 @@ A way is a tuple (p, q, steps): conditions one behind another, and the product o
 from itertools import permutations
 from math import lcm
 
-from dividedseats.checks import check, is_between, is_less, is_pair, is_whole, lowest
+from dividedseats.checks import check, is_between, is_from, is_less, is_pair, lowest
 from dividedseats.shares import MOST_SEATS, is_seats, is_votes, wrong_pair
 
 MOST_RESULTS = 6
@@ -69,7 +69,7 @@ def are_divisors(value):
     """Tell whether the value is a tuple of 1 to 20 divisors, none less than the one before."""
     if not isinstance(value, tuple) or not 1 <= len(value) <= MOST_TOLD:
         return False
-    if not all(is_whole(item) and item >= 1 for item in value):
+    if not all(is_from(item, 1) for item in value):
         return False
     return all(low <= high for low, high in zip(value, value[1:]))
 

@@ -10,6 +10,8 @@ from dividedseats.shares import (
     divisions,
     is_votes,
     seat_divisors,
+    surely_at_most,
+    surely_more,
     wrong_pair,
 )
 
@@ -73,7 +75,7 @@ def is_loss(method, value):
     if not is_merger(row, value) or change_of(value) >= 0:
         return False
     votes, one, other, _, later = value
-    return surely_no_more(row, merged(votes, one, other), later, one)
+    return surely_at_most(row, merged(votes, one, other), later, one, later[one])
 
 
 def is_gain(method, value):
@@ -83,7 +85,7 @@ def is_gain(method, value):
     if not is_merger(row, value) or change_of(value) <= 0:
         return False
     votes, one, other, _, later = value
-    return surely_no_fewer(row, merged(votes, one, other), later, one)
+    return surely_more(row, merged(votes, one, other), later, one, later[one] - 1)
 
 
 def merged(votes, one, other):
@@ -166,23 +168,3 @@ def change_of(value):
     """Return how many seats the merged party has more than both had."""
     _, one, other, seats, later = value
     return later[one] - seats[one] - seats[other]
-
-
-def surely_no_more(row, votes, seats, party):
-    """Tell whether no other party could as well give a seat to this one."""
-    for other in range(len(votes)):
-        if other == party or seats[other] == 0:
-            continue
-        if votes[party] * row[seats[other] - 1] >= votes[other] * row[seats[party]]:
-            return False
-    return True
-
-
-def surely_no_fewer(row, votes, seats, party):
-    """Tell whether no other party could as well have the last seat of this one."""
-    for other in range(len(votes)):
-        if other == party:
-            continue
-        if votes[party] * row[seats[other]] <= votes[other] * row[seats[party] - 1]:
-            return False
-    return True

@@ -91,5 +91,5 @@ def is_last(row, votes, seats, party):
 
 
 def changed(seats, party, by):
-    """Return the seats with so many more, or fewer, for the party."""
+    """Return the seats, or votes, with so many more, or fewer, for the party."""
     return seats[:party] + (seats[party] + by,) + seats[party + 1:]

@@ -104,6 +104,26 @@ def wrong_pair(row, votes, seats):
     return None
 
 
+def surely_more(row, votes, seats, party, many):
+    """Tell whether valid seats that give the party more than so many show that all do."""
+    for other in range(len(votes)):
+        if other == party:
+            continue
+        if votes[party] * row[seats[other]] <= votes[other] * row[many]:
+            return False
+    return True
+
+
+def surely_at_most(row, votes, seats, party, many):
+    """Tell whether valid seats that give the party at most so many show that all do."""
+    for other in range(len(votes)):
+        if other == party or seats[other] == 0:
+            continue
+        if votes[party] * row[seats[other] - 1] >= votes[other] * row[many]:
+            return False
+    return True
+
+
 def divisions(parties, house):
     """Return all ways to divide the house, those first that give more to earlier parties."""
     if parties == 0:

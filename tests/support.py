@@ -4,7 +4,7 @@ import itertools
 import random
 from fractions import Fraction
 
-from dividedseats.errors import BadValue, NotPossible, TooLarge
+from dividedseats.errors import BadValue, NotPossible, TextError, TooLarge
 
 HONDT = ((1,), 1)
 LAGUE = ((1,), 2)
@@ -167,6 +167,37 @@ WRONG_DIVISORS = OTHER_KINDS + (
 )
 
 
+# Not texts.
+WRONG_TEXTS = (
+    None,
+    True,
+    False,
+    0,
+    1,
+    12,
+    1.0,
+    b"",
+    b"1",
+    [],
+    ["1"],
+    (),
+    ("1",),
+    {},
+    {"1": 1},
+    object(),
+    "\n",
+    "1\n",
+    "\n1",
+    "1 \n 2",
+    "1" + 500 * " ",
+    501 * " ",
+    501 * "1",
+    501 * "x",
+    500 * " " + "\n",
+    1000 * "1 ",
+)
+
+
 class Checks:
     """Assertions for test cases."""
 
@@ -187,6 +218,13 @@ class Checks:
             function(*arguments)
         self.assertIs(type(caught.exception), TooLarge)
         self.assertEqual(caught.exception.what, what, arguments)
+
+    def assert_text_error(self, column, words, function, *arguments):
+        with self.assertRaises(TextError) as caught:
+            function(*arguments)
+        self.assertIs(type(caught.exception), TextError)
+        told = (caught.exception.column, caught.exception.words)
+        self.assert_exactly(told, (column, words))
 
     def assert_judged(self, judge, right, value):
         """The judge tells of the value, and of what it is twisted to, what is right.
@@ -345,7 +383,7 @@ def wrong_kinds(value):
     for place in places(value):
         old = at_place(value, place)
         for new in OTHER_KINDS + ((), ("round",), (None,)):
-            if not (isinstance(old, tuple) and isinstance(new, tuple)):
+            if not (isinstance(old, tuple) and isinstance(new, tuple)) and old is not new:
                 yield put(value, place, new)
         if isinstance(old, tuple):
             yield put(value, place, list(old))

@@ -14,7 +14,7 @@ class ExamplesTest(unittest.TestCase):
         self.assertEqual(told.failed, 0)
 
     def test_interface(self):
-        self.assert_as_printed(os.path.join(HERE, "examples.txt"), 49)
+        self.assert_as_printed(os.path.join(HERE, "examples.txt"), 65)
 
     def test_readme(self):
         self.assert_as_printed(os.path.join(HERE, "..", "README.md"), 30)

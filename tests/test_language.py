@@ -78,6 +78,13 @@ def imported_names(tree):
     ]
 
 
+def is_plain(node):
+    """Whether it is a literal that may stand at module level: in tuples are only tuples."""
+    if isinstance(node, ast.Tuple):
+        return all(isinstance(item, (ast.Tuple, ast.Constant)) and is_plain(item) for item in node.elts)
+    return isinstance(node, ast.Constant)
+
+
 class LanguageTest(unittest.TestCase):
     def test_files(self):
         for path in package_files():
@@ -104,7 +111,7 @@ class LanguageTest(unittest.TestCase):
             for node in tree.body:
                 plain = isinstance(node, (ast.ImportFrom, ast.FunctionDef, ast.ClassDef))
                 if isinstance(node, ast.Assign):
-                    plain = len(node.targets) == 1 and isinstance(node.value, ast.Constant)
+                    plain = len(node.targets) == 1 and is_plain(node.value)
                 elif isinstance(node, ast.Expr):
                     plain = isinstance(node.value, ast.Constant)
                 self.assertTrue(plain, (path, node.lineno))

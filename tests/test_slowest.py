@@ -8,10 +8,21 @@ import oracle
 from dividedseats.comparing import accepts_telling, telling_votes
 from dividedseats.favors import accepts_favoring, favoring_votes
 from dividedseats.fitting import accepts_fit, can_fit, fit_evidence, wrong_in
+from dividedseats.keeping import (
+    above_evidence,
+    accepts_above,
+    accepts_below,
+    accepts_not_near,
+    below_evidence,
+    near_evidence,
+)
 from dividedseats.keys import key_ends, least_seats, violation
+from dividedseats.margins import accepts_margin, margin, margin_evidence
 from dividedseats.mergers import is_loss, told_loss
 from dividedseats.prediction import accepts_possible, certain, possible, possible_evidence
+from dividedseats.quotas import first_transfer, nearest_seats, quotas
 from dividedseats.ratios import accepts_ratio, greatest_ratio, ratio_evidence
+from dividedseats.scanning import scan
 from dividedseats.seating import accepts_order, bounds, last_parties, next_parties, told_order
 from dividedseats.shares import count_valid
 from support import HONDT, LAGUE, MODIFIED, plain_divisors
@@ -111,6 +122,39 @@ class SlowestTest(unittest.TestCase):
         for method in (((1000,) * 6, 1000), ((1,) * 6, 1), ((1, 1, 1, 1, 1, 1000), 1000)):
             told = self.timed(told_loss, method)
             self.assertTrue(self.timed(is_loss, method, told))
+
+    def test_quotas(self):
+        votes = (999983, 1, 2, 3, 1000000)
+        self.timed(quotas, votes, (0, 3, 3, 2, 0))
+        self.timed(first_transfer, votes, (0, 3, 3, 2, 0))
+        nearest = self.timed(nearest_seats, votes, (0, 3, 3, 2, 0))
+        self.assertEqual(nearest, (4, 0, 0, 0, 4))
+
+    def test_keeping(self):
+        for method in (((1, 2, 3, 4, 5, 6), 1000), ((167, 334, 501, 668, 835, 1000), 1), FLAT):
+            told = self.timed(below_evidence, method)
+            self.assertTrue(self.timed(accepts_below, method, told))
+            told = self.timed(above_evidence, method)
+            self.assertTrue(self.timed(accepts_above, method, told))
+            told = self.timed(near_evidence, method)
+            self.assertTrue(self.timed(accepts_not_near, method, told))
+            self.timed(accepts_below, method, (10**500, 10**500, 10**499, 100, 100))
+            self.timed(accepts_above, method, (10**500, 10**500, 10**499, 100, 100))
+            self.timed(accepts_not_near, method, ((10**500, 10**499), (100, 100)))
+
+    def test_margins(self):
+        for method in (HONDT, FLAT, ((1,), 1000)):
+            for votes, seats in ((EQUAL, (2, 2, 2, 1, 1)), ((1000000,) * 2, (4, 4))):
+                for word in ("can gain", "must gain", "can lose", "must lose"):
+                    asked = (method, votes, seats, 1, word)
+                    many = self.timed(margin, *asked)
+                    told = self.timed(margin_evidence, *asked)
+                    if many is not None:
+                        self.assertTrue(self.timed(accepts_margin, *asked, many, told))
+
+    def test_scanning(self):
+        for text in ("1 " * 250, "12345678 " * 55, ":" * 500, " " * 500):
+            self.timed(scan, text)
 
 
 if __name__ == "__main__":
