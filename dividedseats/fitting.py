@@ -38,7 +38,7 @@ def are_results(value):
 def can_fit(results):
     """Tell whether some divisors fit the results."""
     check_results(results)
-    return ways_on(least_links(results)) is not None
+    return some_fit(results)
 
 
 def fit_evidence(results):
@@ -95,6 +95,11 @@ def seat_row(divisors):
 def are_fitting(results, value):
     """Tell whether the value is divisors that fit the results."""
     return are_divisors(value) and first_wrong(results, value) is None
+
+
+def some_fit(results):
+    """Tell whether some divisors fit the results, without checks."""
+    return ways_on(least_links(results)) is not None
 
 
 def told_evidence(results):

@@ -21,8 +21,7 @@ def possible(results, votes, house):
 def certain(results, votes, house):
     """Return the certain seats, or None if none are."""
     check_asked(results, votes, house)
-    found = possible_seats(results, votes, house)
-    return found[0] if len(found) == 1 else None
+    return certain_seats(results, votes, house)
 
 
 def possible_evidence(results, votes, seats):
@@ -63,3 +62,9 @@ def possible_seats(results, votes, house):
         if ways_on(more) is not None:
             found.append(seats)
     return found
+
+
+def certain_seats(results, votes, house):
+    """Return the certain seats, without checks, or None if none are."""
+    found = possible_seats(results, votes, house)
+    return found[0] if len(found) == 1 else None

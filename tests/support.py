@@ -145,6 +145,60 @@ WRONG_RESULTS = OTHER_KINDS + (
     (RESULT,) * 5 + (None,),
 )
 
+VOTES = (7, 4, 1)
+COMMANDS = (
+    ("add", RESULT),
+    ("remove", 0),
+    ("adopt", HONDT),
+    ("abandon",),
+    ("apportion", VOTES, 3),
+)
+WRONG_COMMANDS = OTHER_KINDS + (
+    0,
+    (),
+    "add",
+    "abandon",
+    b"abandon",
+    ["abandon"],
+    ["add", RESULT],
+    (("abandon",),),
+    (None,),
+    ("add",),
+    ("remove",),
+    ("adopt",),
+    ("apportion",),
+    ("undo",),
+    ("Abandon",),
+    ("abandon ",),
+    ("abandon", None),
+    ("abandon", ()),
+    ("abandon", HONDT),
+    ("abandon", 0),
+    (b"abandon",),
+    ("add", RESULT, RESULT),
+    ("add", RESULT[0], RESULT[1]),
+    ("add", (RESULT,)),
+    ("Add", RESULT),
+    (RESULT, "add"),
+    ("remove", 0, 0),
+    ("remove", RESULT),
+    ("remove", None),
+    ("adopt", HONDT, HONDT),
+    ("adopt", HONDT[0], HONDT[1]),
+    ("adopt", RESULT),
+    ("apportion", VOTES),
+    ("apportion", VOTES, 3, 3),
+    ("apportion", (VOTES, 3)),
+    ("apportion", 3, VOTES),
+    ("apportion", HONDT, VOTES, 3),
+    ("apportion", VOTES, (3, 0, 0)),
+    *(("add", value) for value in WRONG_RESULT),
+    *(("remove", value) for value in wrong_integers(0, 5)),
+    *(("adopt", value) for value in WRONG_METHODS),
+    *(("apportion", value, 0) for value in WRONG_VOTES),
+    *(("apportion", VOTES, value) for value in wrong_integers(0, 8)),
+)
+
 # Not divisors that a tuple tells.
 WRONG_DIVISORS = OTHER_KINDS + (
     1,
@@ -311,6 +365,21 @@ def has_key(method, votes, seats):
 def all_valid(method, votes, house):
     """The valid seats of a house, in their order."""
     return [seats for seats in all_seats(len(votes), house) if has_key(method, votes, seats)]
+
+
+def all_shares(method, votes, house):
+    """The valid seats of a house, given one after another in each way in which they can be."""
+    row = plain_divisors(method, 20)
+    found = {(0,) * len(votes)}
+    for _ in range(house):
+        more = set()
+        for seats in found:
+            quotients = [Fraction(many, row[own]) for many, own in zip(votes, seats)]
+            for party, item in enumerate(quotients):
+                if item == max(quotients):
+                    more.add(seats[:party] + (seats[party] + 1,) + seats[party + 1:])
+        found = more
+    return sorted(found, reverse=True)
 
 
 def small_method(chance):

@@ -120,6 +120,7 @@ class IndexesTest(Checks, unittest.TestCase):
 
     def test_not_accepted(self):
         wrong = [(0, 0), (100, 100), (0, 101), (101, 0), (-1, 0), (0, -1), (1000, 2), (0,)]
+        wrong += [(-1, 5), (5, -1), (-1, -1), (-1, 101)]
         wrong += [(0, 1, 2), (), [0, 1], "01", ("0", "1"), (0, None), (0.0, 1.0), ((0,), (1,))]
         wrong += [(0, True), (False, 1), (False, True), (True, 5), 1, (0, [1])]
         for value in tuple(wrong) + OTHER_KINDS:

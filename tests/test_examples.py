@@ -14,10 +14,10 @@ class ExamplesTest(unittest.TestCase):
         self.assertEqual(told.failed, 0)
 
     def test_interface(self):
-        self.assert_as_printed(os.path.join(HERE, "examples.txt"), 65)
+        self.assert_as_printed(os.path.join(HERE, "examples.txt"), 80)
 
     def test_readme(self):
-        self.assert_as_printed(os.path.join(HERE, "..", "README.md"), 30)
+        self.assert_as_printed(os.path.join(HERE, "..", "README.md"), 73)
 
 
 if __name__ == "__main__":

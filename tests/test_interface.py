@@ -5,10 +5,12 @@ import unittest
 
 from dividedseats import (
     alike,
+    archive,
     comparing,
     errors,
     favors,
     fitting,
+    journals,
     keeping,
     keys,
     margins,
@@ -17,9 +19,11 @@ from dividedseats import (
     prediction,
     quotas,
     ratios,
+    reading,
     scanning,
     seating,
     shares,
+    writing,
 )
 
 INTERFACE = (
@@ -99,11 +103,33 @@ INTERFACE = (
     (margins, "margin_evidence", "method votes seats party word"),
     (margins, "accepts_margin", "method votes seats party word many value"),
     (scanning, "scan", "text"),
+    (reading, "next_tokens", "text kind"),
+    (reading, "read_method", "text"),
+    (reading, "read_results", "text"),
+    (writing, "method_text", "method"),
+    (writing, "results_text", "results"),
+    (archive, "Archive", ""),
+    (journals, "replayed", "journal"),
+    (journals, "are_right", "records"),
     (errors, "BadValue", "name"),
     (errors, "TooLarge", "what"),
     (errors, "NotPossible", "why"),
     (errors, "TextError", "column words"),
 )
+
+# Each of them is defined in the class itself.
+METHODS = {
+    "act": "self command",
+    "undo": "self",
+    "results": "self",
+    "method": "self",
+    "journal": "self",
+    "can_fit": "self",
+    "possible": "self votes house",
+    "certain": "self votes house",
+    "records": "self",
+    "twin": "self",
+}
 
 
 class InterfaceTest(unittest.TestCase):
@@ -111,6 +137,13 @@ class InterfaceTest(unittest.TestCase):
         for module, name, arguments in INTERFACE:
             told = getattr(module, name)
             self.assertEqual(told.__module__, module.__name__)
+            self.assertEqual(list(inspect.signature(told).parameters), arguments.split(), name)
+
+    def test_methods_of_archives(self):
+        self.assertIs(type(archive.Archive), type)
+        for name, arguments in METHODS.items():
+            told = vars(archive.Archive)[name]
+            self.assertTrue(inspect.isfunction(told))
             self.assertEqual(list(inspect.signature(told).parameters), arguments.split(), name)
 
 

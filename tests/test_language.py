@@ -17,7 +17,10 @@ BUILTINS = set(
 )
 # Examples that are run leave a value called _ among the builtins, and classes have an __init__.
 TAKEN = set(dir(builtins)) - {"_", "__init__"}
-METHODS = set("append clear copy count extend get index insert items keys pop remove values".split())
+ARCHIVE = {"act", "results", "method"}
+METHODS = set(
+    "append clear copy count extend get index insert items join keys pop remove values".split()
+)
 TAKES_GENERATORS = set("list tuple dict sorted sum min max any all".split())
 # What may only be iterated where it stands, and who may do that besides loops.
 AT_ONCE = {"range", "zip", "enumerate", "reversed", "permutations"}
@@ -36,7 +39,6 @@ NO_NODES = (
     ast.Import,
     ast.JoinedStr,
     ast.Delete,
-    ast.Try,
     ast.With,
 )
 NO_WORDS = set("type typing enum register mro elements open input law".split())
@@ -79,10 +81,17 @@ def imported_names(tree):
 
 
 def is_plain(node):
-    """Whether it is a literal that may stand at module level: in tuples are only tuples."""
+    """Whether it is a literal without lists and dicts."""
     if isinstance(node, ast.Tuple):
-        return all(isinstance(item, (ast.Tuple, ast.Constant)) and is_plain(item) for item in node.elts)
+        return all(is_plain(item) for item in node.elts)
     return isinstance(node, ast.Constant)
+
+
+def is_table(node):
+    """Whether it is a literal dict, of which all values are plain."""
+    if not isinstance(node, ast.Dict):
+        return False
+    return all(is_plain(item) for item in node.keys + node.values)
 
 
 class LanguageTest(unittest.TestCase):
@@ -111,7 +120,8 @@ class LanguageTest(unittest.TestCase):
             for node in tree.body:
                 plain = isinstance(node, (ast.ImportFrom, ast.FunctionDef, ast.ClassDef))
                 if isinstance(node, ast.Assign):
-                    plain = len(node.targets) == 1 and is_plain(node.value)
+                    plain = is_plain(node.value) or is_table(node.value)
+                    self.assertEqual(len(node.targets), 1, (path, node.lineno))
                 elif isinstance(node, ast.Expr):
                     plain = isinstance(node.value, ast.Constant)
                 self.assertTrue(plain, (path, node.lineno))
@@ -123,13 +133,41 @@ class LanguageTest(unittest.TestCase):
                 if isinstance(node, ast.Constant):
                     self.assertNotIsInstance(node.value, (float, complex, bytes), path)
 
+    def test_only_own_errors_are_caught(self):
+        own = {node.name for path, tree in trees() if path.endswith("errors.py") for node in tree.body
+               if isinstance(node, ast.ClassDef)}
+        for path, tree in trees():
+            for node in ast.walk(tree):
+                if isinstance(node, ast.Try):
+                    self.assertEqual(node.finalbody, [], path)
+                    for handler in node.handlers:
+                        self.assertIn(handler.type.id, own, path)
+                if isinstance(node, ast.Raise):
+                    self.assertIn(node.exc.func.id, own, path)
+
+    def test_tables_are_only_read(self):
+        # A dict at module level is neither changed nor passed on.
+        for path, tree in trees():
+            tables = {
+                node.targets[0].id
+                for node in tree.body
+                if isinstance(node, ast.Assign) and isinstance(node.value, ast.Dict)
+            }
+            read = [node for node in ast.walk(tree) if isinstance(node, ast.Subscript)]
+            allowed = {node.value for node in read if isinstance(node.ctx, ast.Load)}
+            for node in ast.walk(tree):
+                if isinstance(node, ast.Name) and node.id in tables:
+                    if isinstance(node.ctx, ast.Load):
+                        self.assertIn(node, allowed, (path, node.lineno))
+
     def test_builtins_and_methods(self):
         for path, tree in trees():
             for node in ast.walk(tree):
                 if isinstance(node, ast.Name) and node.id in TAKEN:
                     self.assertIn(node.id, BUILTINS, path)
                 if isinstance(node, ast.Call) and isinstance(node.func, ast.Attribute):
-                    self.assertIn(node.func.attr, METHODS, path)
+                    own = isinstance(node.func.value, ast.Name) and node.func.value.id in ("self", "archive")
+                    self.assertIn(node.func.attr, ARCHIVE if own else METHODS, path)
 
     def test_names(self):
         for path, tree in trees():

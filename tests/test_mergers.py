@@ -25,6 +25,7 @@ from support import (
     WRONG_VOTES,
     Checks,
     all_seats,
+    all_shares,
     all_valid,
     has_key,
     plain_divisors,
@@ -553,21 +554,6 @@ class JudgeTest(Checks, unittest.TestCase):
     def test_wrong_arguments(self):
         for function in (is_loss, is_gain):
             self.assert_checked(function, [METHOD_ROW, ("value", LOSS, None)])
-
-
-def all_shares(method, votes, house):
-    """The valid great seats, given one after another in each way in which they can be."""
-    row = plain_divisors(method, 20)
-    found = {(0,) * len(votes)}
-    for _ in range(house):
-        more = set()
-        for seats in found:
-            quotients = [Fraction(many, row[own]) for many, own in zip(votes, seats)]
-            for party, item in enumerate(quotients):
-                if item == max(quotients):
-                    more.add(seats[:party] + (seats[party] + 1,) + seats[party + 1:])
-        found = more
-    return sorted(found, reverse=True)
 
 
 if __name__ == "__main__":

@@ -2,14 +2,12 @@
 
 import itertools
 import random
-import re
 import unittest
 
 from dividedseats.scanning import scan
 from support import WRONG_TEXTS, Checks
+from texts import LONG, NO_TOKEN, plain_scan
 
-NO_TOKEN = "no token begins here"
-LONG = "a number has at most 8 digits"
 # Blank signs, digits and signs that are no others of the document.
 STRANGE = (
     "\t\r\x0b\x0c\x1c\x1f\x85\xa0\u2003\u2028\u3000\ufeff"
@@ -17,22 +15,6 @@ STRANGE = (
     "\uff0b\uff1a\uff1b\u037e\xb1"
     "\x00\x7f\xe9\U0001d7d8\U0001f600"
 )
-
-
-def plain_scan(text):
-    """The tokens, or the column and the words of the first problem."""
-    tokens = []
-    for found in re.finditer("[0-9]+|[^ ]", text):
-        characters, column = found.group(), found.start() + 1
-        if characters in "+:;":
-            tokens.append(("sign", characters, column))
-        elif re.fullmatch("[0-9]+", characters) is None:
-            return column, NO_TOKEN
-        elif len(characters) > 8:
-            return column, LONG
-        else:
-            tokens.append(("number", characters, column))
-    return tokens + [("end", "", len(text) + 1)]
 
 
 class ScanTest(Checks, unittest.TestCase):

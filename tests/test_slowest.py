@@ -5,9 +5,11 @@ import time
 import unittest
 
 import oracle
+from dividedseats.archive import Archive
 from dividedseats.comparing import accepts_telling, telling_votes
 from dividedseats.favors import accepts_favoring, favoring_votes
 from dividedseats.fitting import accepts_fit, can_fit, fit_evidence, wrong_in
+from dividedseats.journals import are_right, replayed
 from dividedseats.keeping import (
     above_evidence,
     accepts_above,
@@ -22,9 +24,11 @@ from dividedseats.mergers import is_loss, told_loss
 from dividedseats.prediction import accepts_possible, certain, possible, possible_evidence
 from dividedseats.quotas import first_transfer, nearest_seats, quotas
 from dividedseats.ratios import accepts_ratio, greatest_ratio, ratio_evidence
+from dividedseats.reading import next_tokens, read_method, read_results
 from dividedseats.scanning import scan
 from dividedseats.seating import accepts_order, bounds, last_parties, next_parties, told_order
 from dividedseats.shares import count_valid
+from dividedseats.writing import method_text, results_text
 from support import HONDT, LAGUE, MODIFIED, plain_divisors
 
 # Far more than any of the calls takes anywhere.
@@ -50,7 +54,7 @@ class SlowestTest(unittest.TestCase):
         begin = time.perf_counter()
         told = function(*arguments)
         passed = time.perf_counter() - begin
-        name = function.__module__.split(".")[1] + "." + function.__name__
+        name = function.__module__.split(".")[1] + "." + function.__qualname__
         print(f"{name}: {1000 * passed:.1f} ms")
         self.assertLess(passed, LIMIT, name)
         return told
@@ -155,6 +159,50 @@ class SlowestTest(unittest.TestCase):
     def test_scanning(self):
         for text in ("1 " * 250, "12345678 " * 55, ":" * 500, " " * 500):
             self.timed(scan, text)
+
+    def test_reading_and_writing(self):
+        for kind in ("method", "results"):
+            self.timed(next_tokens, "1 " * 250, kind)
+        method = ((1000,) * 6, 1000)
+        text = self.timed(method_text, method)
+        self.assertEqual(self.timed(read_method, text + " " * (500 - len(text))), method)
+        results = great_results(8, HONDT)
+        text = self.timed(results_text, results)
+        self.assertEqual(self.timed(read_results, text + " " * (500 - len(text))), results)
+
+    def test_archives(self):
+        # Six results of five parties, and 20 commands.
+        archive = Archive()
+        for result in great_results(9, MODIFIED):
+            self.timed(archive.act, ("add", result))
+        self.timed(archive.act, ("adopt", MODIFIED))
+        for _ in range(6):
+            archive.act(("remove", 0))
+            self.timed(archive.act, ("apportion", EQUAL, 8))
+        archive.act(("abandon",))
+        self.assertEqual(len(archive.journal()), 20)
+        self.ask(archive)
+
+    def test_archives_without_divisors(self):
+        archive = Archive()
+        for result in great_results(10, HONDT)[:5]:
+            archive.act(("add", result))
+        for _ in range(7):
+            archive.act(("add", ((999999, 1000000, 1, 1, 1), (8, 0, 0, 0, 0))))
+            archive.act(("remove", 5))
+        archive.act(("add", ((999999, 1000000, 1, 1, 1), (8, 0, 0, 0, 0))))
+        self.assertFalse(archive.can_fit())
+        self.ask(archive)
+
+    def ask(self, archive):
+        records = self.timed(archive.records)
+        self.assertTrue(self.timed(are_right, records))
+        self.timed(archive.can_fit)
+        self.timed(archive.possible, EQUAL, 8)
+        self.timed(archive.certain, EQUAL, 8)
+        other = self.timed(replayed, archive.journal())
+        self.assertEqual(self.timed(other.twin).records(), records)
+        self.timed(other.undo)
 
 
 if __name__ == "__main__":
